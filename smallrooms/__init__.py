@@ -1,0 +1,1 @@
+"""Smallrooms: numbers in small rooms, shown by papers."""

@@ -1,0 +1,148 @@
+"""The package's files keep to the small part of Python that they are written in: the rules that can be seen in them.
+
+Not every rule of that part is held here; a file that passes may still break one that only a reader sees.
+"""
+
+import ast
+import builtins
+import pathlib
+import re
+import unittest
+
+PACKAGE = pathlib.Path(__file__).resolve().parent.parent / "smallrooms"
+
+NODES = """
+    Module Import ImportFrom alias FunctionDef ClassDef arguments arg Assign AugAssign If While For Return Break
+    Continue Pass Raise Try ExceptHandler Expr Constant List Tuple Dict Set BinOp UnaryOp BoolOp Compare IfExp Call
+    keyword Attribute Subscript Slice ListComp comprehension JoinedStr FormattedValue Lambda Name Load Store
+    Add Sub Mult FloorDiv Mod Pow BitAnd BitOr BitXor LShift RShift Invert USub UAdd Not And Or
+    Eq NotEq Lt LtE Gt GtE Is IsNot In NotIn
+""".split()
+
+BUILTINS = """
+    len range enumerate zip min max sum abs sorted reversed int str bool list tuple dict set frozenset isinstance ord
+    repr any all divmod Exception ValueError KeyError IndexError LookupError ZeroDivisionError
+    ArithmeticError OverflowError RuntimeError NotImplementedError AttributeError StopIteration
+""".split()
+
+METHODS = """
+    append clear copy count endswith extend find get index insert isalnum isalpha isdigit islower isspace isupper items
+    join keys ljust lower lstrip partition pop remove replace reverse rfind rjust rpartition rsplit rstrip setdefault
+    split splitlines startswith strip update upper values zfill bit_length
+""".split()
+
+WORDS_OUT = """
+    type typing typing_extensions enum Enum IntEnum StrEnum Flag IntFlag Generic Protocol ABC ABCMeta namedtuple
+    NamedTuple TypedDict TYPE_CHECKING abstractmethod
+""".split()
+
+DUNDERS = ("__init__", "__eq__", "__repr__", "__str__", "__len__")
+
+
+def sources():
+    return [(path, path.read_text(encoding="utf-8")) for path in sorted(PACKAGE.rglob("*.py"))]
+
+
+def walked():
+    for path, text in sources():
+        for node in ast.walk(ast.parse(text)):
+            yield path.name, node
+
+
+def own_names(tree):
+    """All names that a file binds, in whatever way."""
+    bound = []
+    for node in ast.walk(tree):
+        if isinstance(node, ast.Name) and isinstance(node.ctx, ast.Store):
+            bound.append(node.id)
+        elif isinstance(node, (ast.FunctionDef, ast.ClassDef)):
+            bound.append(node.name)
+        elif isinstance(node, ast.arg):
+            bound.append(node.arg)
+        elif isinstance(node, ast.alias):
+            bound.append(node.asname or node.name)
+        elif isinstance(node, ast.ExceptHandler) and node.name:
+            bound.append(node.name)
+    return bound
+
+
+class LanguageTest(unittest.TestCase):
+    def test_files(self):
+        for path in PACKAGE.rglob("*"):
+            if path.name == "__pycache__" or path.parent.name == "__pycache__":
+                continue
+            self.assertRegex(path.name, r"^(__init__|[a-z][a-z0-9_]*)\.py$")
+
+    def test_rows_and_signs(self):
+        for path, text in sources():
+            self.assertRegex(text, r"\A[ -~\n]*\Z", path.name)
+            rows = text.split("\n")
+            self.assertLessEqual(len(rows), 400, path.name)
+            self.assertLessEqual(max(map(len, rows)), 120, path.name)
+
+    def test_words_that_stand_nowhere(self):
+        for path, text in sources():
+            for word in WORDS_OUT:
+                self.assertNotRegex(text, rf"\b{word}\b", path.name)
+            self.assertNotRegex(text, "dataclass|overload|contextmanager", path.name)
+
+    def test_imports_are_the_packages_own(self):
+        for file, node in walked():
+            self.assertNotIsInstance(node, ast.Import, file)
+            if isinstance(node, ast.ImportFrom):
+                self.assertEqual(node.level, 0, file)
+                self.assertRegex(node.module, r"^smallrooms\.[a-z_]+$", file)
+                self.assertNotIn("*", [alias.name for alias in node.names], file)
+
+    def test_forms(self):
+        for file, node in walked():
+            self.assertIn(node.__class__.__name__, NODES, (file, getattr(node, "lineno", 0)))
+            if isinstance(node, ast.Constant):
+                self.assertIsInstance(node.value, (int, str, bool, type(None)), file)
+            if isinstance(node, ast.Assign):
+                self.assertEqual(len(node.targets), 1, file)
+            if isinstance(node, (ast.For, ast.While)):
+                self.assertEqual(node.orelse, [], file)
+            if isinstance(node, ast.ListComp):
+                self.assertEqual(len(node.generators), 1, file)
+                self.assertLessEqual(len(node.generators[0].ifs), 1, file)
+
+    def test_defs(self):
+        for file, node in walked():
+            if isinstance(node, ast.FunctionDef):
+                self.assertLessEqual(node.end_lineno - node.lineno + 1, 40, (file, node.name))
+                self.assertEqual(node.decorator_list, [], (file, node.name))
+                left = node.args
+                self.assertEqual((left.vararg, left.kwarg, left.kwonlyargs, left.posonlyargs), (None, None, [], []))
+            if isinstance(node, ast.ClassDef):
+                self.assertLessEqual(len(node.bases), 1, (file, node.name))
+                for inner in node.body:
+                    self.assertIsInstance(inner, (ast.FunctionDef, ast.Pass), (file, node.name))
+
+    def test_is_stands_beside_none_and_truths(self):
+        for file, node in walked():
+            if isinstance(node, ast.Compare):
+                for sign, other in zip(node.ops, node.comparators):
+                    if isinstance(sign, (ast.Is, ast.IsNot)):
+                        self.assertIsInstance(other, ast.Constant, file)
+
+    def test_names(self):
+        for path, text in sources():
+            tree = ast.parse(text)
+            bound = own_names(tree)
+            for word in bound:
+                self.assertTrue(word in DUNDERS or re.match(r"[A-Za-z][A-Za-z0-9_]*\Z", word), (path.name, word))
+                self.assertFalse(hasattr(builtins, word), (path.name, word))
+            for node in ast.walk(tree):
+                if isinstance(node, ast.Name):
+                    self.assertIn(node.id, bound + BUILTINS, path.name)
+
+    def test_methods(self):
+        own = [node.name for file, node in walked() if isinstance(node, ast.FunctionDef)]
+        for file, node in walked():
+            if isinstance(node, ast.Call) and isinstance(node.func, ast.Attribute):
+                self.assertIn(node.func.attr, METHODS + own, file)
+
+
+if __name__ == "__main__":
+    unittest.main()
