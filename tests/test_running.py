@@ -147,6 +147,8 @@ class DeedsTest(unittest.TestCase):
 
     def test_long_with_most_zero(self):
         self.assertEqual(run(self.down(0), (1,)), ("refused", "long", (1,)))
+        self.assertEqual(run(self.down(-1), (1,)), ("refused", "long", (1,)))
+        self.assertEqual(run(self.down(-1), (0,)), ("told", (("a", 0), ("n", 0))))
         program = ((), (("while", num(1), 0, (("set", "a", ("quo", num(1), num(0))),)),))
         self.assertEqual(run(program, ()), ("refused", "long", (0,)))
         self.assertEqual(traced(program, ()), [((0, 0), 1)])
