@@ -3,8 +3,7 @@
 A sum is called a term here, since Python's own sum has that name.
 """
 
-LEAST = -32768
-GREATEST = 32767
+WIDE = (-32768, 32767)
 
 LETTERS = "abcdefghijklmnopqrstuvwxyz"
 MOST_LETTERS = 2
@@ -30,12 +29,16 @@ def is_program(thing):
     return known_behind_block(thing[1], known) is not None
 
 
+# Rows of deeds and of the sums in a sum rise, and all paths of a deed's sum stand ahead of those in its blocks.
 def spots(program):
-    return spots_of_block(program[1], ())
+    rows = []
+    for path, deed in all_deeds(program):
+        rows.extend(spots_of_term(term_of(deed), path + (0,)))
+    return rows
 
 
 def whiles(program):
-    return whiles_of_block(program[1], ())
+    return [path for path, deed in all_deeds(program) if deed[0] == "while"]
 
 
 # True and False are ints to Python, but they are no whole numbers here.
@@ -51,22 +54,25 @@ def is_tuple_of(thing, many):
     return isinstance(thing, tuple) and len(thing) == many
 
 
+def is_path(thing):
+    return isinstance(thing, tuple) and all([is_whole(number) for number in thing])
+
+
 def is_name(thing):
     if not isinstance(thing, str) or len(thing) < 1 or len(thing) > MOST_LETTERS:
         return False
     return all([sign in LETTERS for sign in thing])
 
 
-def are_ins(thing):
-    if not isinstance(thing, tuple) or len(thing) > MOST_INS:
+# Whether any thing is a tuple of rows whose first parts rise; these are asked about only once all are rows.
+def are_rising_rows(thing, is_row):
+    if not isinstance(thing, tuple) or not all([is_row(row) for row in thing]):
         return False
-    # The empty text is below every name, so the first one always rises.
-    before = ""
-    for row in thing:
-        if not is_in(row) or row[0] <= before:
-            return False
-        before = row[0]
-    return True
+    return all([one[0] < other[0] for one, other in zip(thing, thing[1:])])
+
+
+def are_ins(thing):
+    return are_rising_rows(thing, is_in) and len(thing) <= MOST_INS
 
 
 def is_in(thing):
@@ -98,7 +104,7 @@ def is_term(thing, levels):
         return False
     if is_tuple_of(thing, 2):
         if thing[0] == "num":
-            return is_whole_from(thing[1], LEAST, GREATEST)
+            return is_whole_from(thing[1], WIDE[0], WIDE[1])
         return thing[0] == "name" and is_name(thing[1])
     if not is_tuple_of(thing, 3) or thing[0] not in WORDS:
         return False
@@ -151,15 +157,19 @@ def blocks_of(deed):
     return []
 
 
-# A path stands ahead of all that it begins, and 0 ahead of 1 ahead of 2:
-# rows told in the order of the walk, each sum ahead of its parts and of the deed's blocks, rise already.
-def spots_of_block(block, path):
+# All deeds with their paths, those in blocks of deeds too.
+# A path stands ahead of all that it begins, and 0 ahead of 1 ahead of 2: told in the order of the walk, rows rise.
+def all_deeds(program):
+    return deeds_of_block(program[1], ())
+
+
+def deeds_of_block(block, path):
     rows = []
     for at, deed in enumerate(block):
         deed_path = path + (at,)
-        rows.extend(spots_of_term(term_of(deed), deed_path + (0,)))
+        rows.append((deed_path, deed))
         for number, inner in blocks_of(deed):
-            rows.extend(spots_of_block(inner, deed_path + (number,)))
+            rows.extend(deeds_of_block(inner, deed_path + (number,)))
     return rows
 
 
@@ -167,14 +177,3 @@ def spots_of_term(term, path):
     if term[0] == "num" or term[0] == "name":
         return [(path, term)]
     return [(path, term)] + spots_of_term(term[1], path + (0,)) + spots_of_term(term[2], path + (1,))
-
-
-def whiles_of_block(block, path):
-    paths = []
-    for at, deed in enumerate(block):
-        deed_path = path + (at,)
-        if deed[0] == "while":
-            paths.append(deed_path)
-        for number, inner in blocks_of(deed):
-            paths.extend(whiles_of_block(inner, deed_path + (number,)))
-    return paths

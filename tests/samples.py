@@ -1,6 +1,10 @@
 """What several tests need: short ways to write programs, and programs and things drawn from a fixed seed."""
 
+import itertools
+
 from smallrooms.programs import WORDS
+
+LEAST, GREATEST = -32768, 32767
 
 NAMES = ("a", "b", "c", "zz")
 
@@ -89,6 +93,42 @@ def drawn_worths(source, program):
     return tuple(source.randrange(low, high + 1) for in_name, low, high in program[0])
 
 
+def all_worths_of(program):
+    return list(itertools.product(*[range(low, high + 1) for in_name, low, high in program[0]]))
+
+
+def stepped(n, step):
+    return ("set", n, ("add", name(n), num(step)))
+
+
+def drawn_while(source, known, levels):
+    """A while that counts a known name up or down, mostly to an end."""
+    n = source.choice(sorted(known))
+    step = source.choice((-7, -2, -1, -1, 1, 1, 2, 300))
+    to = source.choice((-9, -1, 0, 0, 3, 8, 20, 200, 32767, -32768))
+    beside = name(source.choice(sorted(known))) if source.randrange(4) == 0 else num(to)
+    asked = source.choice((
+        name(n), ("less", name(n), beside), ("less", beside, name(n)), ("sub", num(1), ("same", name(n), beside)),
+        ("less", ("add", name(n), num(3)), beside), num(1)))
+    body, behind_body = drawn_block(source, known, 1, 2)
+    if levels > 2 and source.randrange(2):
+        body += (drawn_while(source, behind_body, levels - 1),)
+    return ("while", asked, source.randrange(8), body + (stepped(n, step),))
+
+
+def drawn_counting(source):
+    """A program with whiles that count, in blocks of ifs and whiles too."""
+    ins = (("a", source.randrange(-9, 3), source.randrange(3, 9)),)
+    if source.randrange(2):
+        ins += (("b", 0, source.randrange(4)),)
+    first, known = drawn_block(source, frozenset(row[0] for row in ins), 1, 2)
+    deeds = first + (drawn_while(source, known, 3),)
+    if source.randrange(2):
+        deeds += (("if", drawn_sum(source, known, 2), (drawn_while(source, known, 2),), (stepped("a", 1),)),)
+    last, known = drawn_block(source, known, 1, 2)
+    return (ins, deeds + last)
+
+
 def drawn_thing(source, levels):
     if levels == 0 or source.randrange(6) == 0:
         return source.choice((
@@ -96,3 +136,70 @@ def drawn_thing(source, levels):
             "set", "if", "while", "add", "quo", "\n", "\u00e4", (), []))
     parts = [drawn_thing(source, levels - 1) for at in range(source.randrange(5))]
     return parts if source.randrange(3) == 0 else tuple(parts)
+
+
+class Refused(Exception):
+    pass
+
+
+class SecondWay:
+    """A program written out as Python of its own, which is then done: a second, other way to its runs."""
+
+    operators = {"add": "+", "sub": "-", "mul": "*", "quo": "//", "less": "<", "same": "=="}
+
+    def __init__(self, program):
+        self.lines = []
+        self.block(program[1], (), "")
+        self.ins = program[0]
+        self.rows = []
+        self.code = compile("\n".join(self.lines), "second way", "exec")
+
+    def block(self, block, path, margin):
+        self.lines.append(margin + "pass")
+        for at, deed in enumerate(block):
+            getattr(self, "deed_" + deed[0])(deed, path + (at,), margin)
+
+    def deed_set(self, deed, path, margin):
+        self.lines.append(f"{margin}names[{deed[1]!r}] = {self.term(deed[2], path + (0,))}")
+
+    def deed_if(self, deed, path, margin):
+        self.lines.append(f"{margin}if {self.term(deed[1], path + (0,))}:")
+        self.block(deed[2], path + (1,), margin + " ")
+        self.lines.append(f"{margin}else:")
+        self.block(deed[3], path + (2,), margin + " ")
+
+    def deed_while(self, deed, path, margin):
+        left = "left" + "_".join(map(str, path))
+        self.lines.append(f"{margin}{left} = {deed[2]}")
+        self.lines.append(f"{margin}while {self.term(deed[1], path + (0,))}:")
+        self.lines.append(f"{margin} if {left} == 0: raise Refused('long', {path!r})")
+        self.lines.append(f"{margin} {left} -= 1")
+        self.block(deed[3], path + (1,), margin + " ")
+
+    def term(self, term, path):
+        if term[0] == "num":
+            return f"had({path!r}, lambda: {term[1]})"
+        if term[0] == "name":
+            return f"had({path!r}, lambda: names[{term[1]!r}])"
+        one, other = self.term(term[1], path + (0,)), self.term(term[2], path + (1,))
+        if term[0] in self.operators:
+            return f"had({path!r}, lambda: int({one} {self.operators[term[0]]} {other}))"
+        return f"had({path!r}, lambda: {term[0]}({one}, {other}))"
+
+    def had(self, path, reckoned):
+        try:
+            comes_to = reckoned()
+        except ZeroDivisionError:
+            raise Refused("zero", path) from None
+        self.rows.append((path, comes_to))
+        if comes_to != max(LEAST, min(comes_to, GREATEST)):
+            raise Refused("over", path)
+        return comes_to
+
+    def done(self, worths):
+        names = {row[0]: at for row, at in zip(self.ins, worths)}
+        try:
+            exec(self.code, {"names": names, "had": self.had, "Refused": Refused})
+        except Refused as refused:
+            return ("refused",) + refused.args
+        return ("told", tuple(sorted(names.items())))

@@ -131,11 +131,68 @@ class LanguageTest(unittest.TestCase):
             tree = ast.parse(text)
             bound = own_names(tree)
             for word in bound:
-                self.assertTrue(word in DUNDERS or re.match(r"[A-Za-z][A-Za-z0-9_]*\Z", word), (path.name, word))
-                self.assertFalse(hasattr(builtins, word), (path.name, word))
+                if word not in DUNDERS:
+                    self.assertRegex(word, r"\A[A-Za-z][A-Za-z0-9_]*\Z", path.name)
+                    self.assertFalse(hasattr(builtins, word), (path.name, word))
             for node in ast.walk(tree):
                 if isinstance(node, ast.Name):
                     self.assertIn(node.id, bound + BUILTINS, path.name)
+
+    def test_locals_are_not_called_like_imports_or_classes(self):
+        for path, text in sources():
+            tree = ast.parse(text)
+            taken = [alias.name for node in tree.body if isinstance(node, ast.ImportFrom) for alias in node.names]
+            taken += [node.name for node in tree.body if isinstance(node, ast.ClassDef)]
+            bound = own_names(tree)
+            for word in taken:
+                self.assertEqual(bound.count(word), 1, (path.name, word))
+
+    def test_each_name_is_bound_once_at_the_top(self):
+        for path, text in sources():
+            bound = []
+            for node in ast.parse(text).body:
+                if isinstance(node, ast.Assign):
+                    bound.append(node.targets[0].id)
+                    self.is_plain(node.value, path.name)
+                elif isinstance(node, (ast.FunctionDef, ast.ClassDef)):
+                    bound.append(node.name)
+            self.assertEqual(len(bound), len(set(bound)), path.name)
+
+    def is_plain(self, node, file):
+        if isinstance(node, ast.UnaryOp):
+            self.assertIsInstance(node.op, ast.USub, file)
+            self.assertIsInstance(node.operand, ast.Constant, file)
+        elif isinstance(node, ast.Dict):
+            for inner in node.keys + node.values:
+                self.assertNotIsInstance(inner, (ast.List, ast.Dict), file)
+                self.is_plain(inner, file)
+        elif isinstance(node, (ast.Tuple, ast.List)):
+            for inner in node.elts:
+                self.assertNotIsInstance(inner, (ast.List, ast.Dict), file)
+                self.is_plain(inner, file)
+        else:
+            self.assertIsInstance(node, ast.Constant, file)
+
+    def test_no_two_files_draw_from_one_another(self):
+        drawn = {}
+        for path, text in sources():
+            drawn[path.stem] = [
+                node.module.split(".")[1] for node in ast.parse(text).body if isinstance(node, ast.ImportFrom)]
+        while drawn:
+            free = [stem for stem in drawn if not any(other in drawn for other in drawn[stem])]
+            self.assertTrue(free, drawn)
+            for stem in free:
+                del drawn[stem]
+
+    def test_names_are_drawn_from_the_file_that_defines_them(self):
+        defined = {path.stem: [
+            getattr(node, "name", None) or node.targets[0].id for node in ast.parse(text).body
+            if isinstance(node, (ast.FunctionDef, ast.ClassDef, ast.Assign))] for path, text in sources()}
+        for file, node in walked():
+            if isinstance(node, ast.ImportFrom):
+                for alias in node.names:
+                    self.assertIn(alias.name, defined[node.module.split(".")[1]], file)
+                    self.assertIsNone(alias.asname, file)
 
     def test_methods(self):
         own = [node.name for file, node in walked() if isinstance(node, ast.FunctionDef)]

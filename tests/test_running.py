@@ -3,7 +3,7 @@
 import random
 import unittest
 
-from samples import deep_block, deep_sum, drawn_program, drawn_worths, name, num
+from samples import SecondWay, deep_block, deep_sum, drawn_program, drawn_worths, name, num
 from smallrooms.errors import NoWorths, RoomError
 from smallrooms.programs import WORDS, is_program, spots, whiles
 from smallrooms.running import run, traced
@@ -288,73 +288,6 @@ class BeyondTest(unittest.TestCase):
         self.assertFalse(is_program(program))
         self.assertEqual(run(program, ()), ("told", (("a", 4), ("b", 4))))
         self.assertEqual(traced(program, ()), [((0, 0), 1), ((0, 1, 0, 0), 4), ((1, 0), 4)])
-
-
-class Refused(Exception):
-    pass
-
-
-class SecondWay:
-    """A program written out as Python of its own, which is then done: a second, other way to its runs."""
-
-    operators = {"add": "+", "sub": "-", "mul": "*", "quo": "//", "less": "<", "same": "=="}
-
-    def __init__(self, program):
-        self.lines = []
-        self.block(program[1], (), "")
-        self.ins = program[0]
-        self.rows = []
-        self.code = compile("\n".join(self.lines), "second way", "exec")
-
-    def block(self, block, path, margin):
-        self.lines.append(margin + "pass")
-        for at, deed in enumerate(block):
-            getattr(self, "deed_" + deed[0])(deed, path + (at,), margin)
-
-    def deed_set(self, deed, path, margin):
-        self.lines.append(f"{margin}names[{deed[1]!r}] = {self.term(deed[2], path + (0,))}")
-
-    def deed_if(self, deed, path, margin):
-        self.lines.append(f"{margin}if {self.term(deed[1], path + (0,))}:")
-        self.block(deed[2], path + (1,), margin + " ")
-        self.lines.append(f"{margin}else:")
-        self.block(deed[3], path + (2,), margin + " ")
-
-    def deed_while(self, deed, path, margin):
-        left = "left" + "_".join(map(str, path))
-        self.lines.append(f"{margin}{left} = {deed[2]}")
-        self.lines.append(f"{margin}while {self.term(deed[1], path + (0,))}:")
-        self.lines.append(f"{margin} if {left} == 0: raise Refused('long', {path!r})")
-        self.lines.append(f"{margin} {left} -= 1")
-        self.block(deed[3], path + (1,), margin + " ")
-
-    def term(self, term, path):
-        if term[0] == "num":
-            return f"had({path!r}, lambda: {term[1]})"
-        if term[0] == "name":
-            return f"had({path!r}, lambda: names[{term[1]!r}])"
-        one, other = self.term(term[1], path + (0,)), self.term(term[2], path + (1,))
-        if term[0] in self.operators:
-            return f"had({path!r}, lambda: int({one} {self.operators[term[0]]} {other}))"
-        return f"had({path!r}, lambda: {term[0]}({one}, {other}))"
-
-    def had(self, path, reckoned):
-        try:
-            comes_to = reckoned()
-        except ZeroDivisionError:
-            raise Refused("zero", path) from None
-        self.rows.append((path, comes_to))
-        if comes_to != max(LEAST, min(comes_to, GREATEST)):
-            raise Refused("over", path)
-        return comes_to
-
-    def done(self, worths):
-        names = {row[0]: at for row, at in zip(self.ins, worths)}
-        try:
-            exec(self.code, {"names": names, "had": self.had, "Refused": Refused})
-        except Refused as refused:
-            return ("refused",) + refused.args
-        return ("told", tuple(sorted(names.items())))
 
 
 class DrawnTest(unittest.TestCase):
