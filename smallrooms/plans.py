@@ -62,12 +62,18 @@ def many_marks(plan):
     return sum([len(row[2]) for row in plan])
 
 
-def run_narrow(program, plan, worths):
+# The bits and marks that a plan tells, by the paths of their spots.
+def rows_by_path(program, plan):
     if not is_plan(program, plan):
         raise BadPlan("this is no plan of the program")
     rows = {}
     for path, bits, marks in plan:
         rows[path] = (bits, marks)
+    return rows
+
+
+def run_narrow(program, plan, worths):
+    rows = rows_by_path(program, plan)
     return run_by(program, worths, lambda worth, path: settled_narrow(worth, path, rows.get(path, FULL)))
 
 

@@ -12,6 +12,7 @@ MOST_INS = 4
 LEAST_IN = -99
 GREATEST_IN = 99
 
+DEEDS = ("set", "if", "while")
 MOST_DEEDS = 6
 MOST_ROUNDS = 20
 DEEPEST_BLOCK = 3
@@ -155,6 +156,15 @@ def blocks_of(deed):
     if deed[0] == "while":
         return [(1, deed[3])]
     return []
+
+
+# A deed of the same kind with another sum, and with other blocks, as many as it has.
+def deed_with(deed, term, blocks):
+    if deed[0] == "set":
+        return ("set", deed[1], term)
+    if deed[0] == "if":
+        return ("if", term, blocks[0], blocks[1])
+    return ("while", term, deed[2], blocks[0])
 
 
 # All deeds with their paths, those in blocks of deeds too.

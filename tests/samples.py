@@ -2,6 +2,7 @@
 
 import itertools
 
+from smallrooms.papers import is_paper, paper_for
 from smallrooms.programs import WORDS
 
 LEAST, GREATEST = -32768, 32767
@@ -136,6 +137,35 @@ def drawn_thing(source, levels):
             "set", "if", "while", "add", "quo", "\n", "\u00e4", (), []))
     parts = [drawn_thing(source, levels - 1) for at in range(source.randrange(5))]
     return parts if source.randrange(3) == 0 else tuple(parts)
+
+
+def wide_paper(program):
+    """The paper that knows nothing of numbers at any while: its names are those found."""
+    return tuple((path, tuple((n, LEAST, GREATEST) for n, low, high in shelf)) for path, shelf in paper_for(program))
+
+
+def papers_of(source, program):
+    """The paper found, and some that know less, as far as they are papers."""
+    found = paper_for(program)
+    less = tuple((path, tuple(
+        (n, max(LEAST, low - source.choice((0, 0, 1, 9))), min(GREATEST, high + source.choice((0, 0, 1, 200))))
+        for n, low, high in shelf)) for path, shelf in found)
+    return [paper for paper in (found, less, wide_paper(program)) if is_paper(program, paper)]
+
+
+def no_papers():
+    """Things that are no papers of any program."""
+    deep, deep_list = (), []
+    for level in range(12):
+        deep, deep_list = (deep,), [deep_list]
+    return (
+        0, 1, -1, True, False, None, "", "a", "paper", [], [()], ((),), ((), ()), (0,), (None,), ("",), ("ab",),
+        (((99,), ()),), (((True,), ()),), (((), None),), deep, deep_list, ((deep, deep_list),))
+
+
+def come_to_the_same(one, other):
+    """Whether both runs come to the same worths, or are refused with the same word, wherever this is."""
+    return one == other if one[0] == "told" else one[:2] == other[:2]
 
 
 class Refused(Exception):

@@ -4,7 +4,7 @@ import random
 import unittest
 
 from samples import (
-    all_worths_of, drawn_counting, drawn_program, drawn_thing, name, num, parts_of, stepped, with_part)
+    all_worths_of, drawn_counting, drawn_program, drawn_thing, name, num, parts_of, stepped, wide_paper, with_part)
 from smallrooms.errors import BadPaper, RoomError
 from smallrooms.papers import is_paper, paper_for, shown
 from smallrooms.plans import name_rooms, plan_by
@@ -111,11 +111,6 @@ def second_shown(program, paper):
         return sorted(SecondReader(program, paper).noted)
     except Refused:
         return None
-
-
-def wide_paper(program):
-    """The paper that knows nothing of numbers at any while: its names are those found."""
-    return tuple((path, tuple((n,) + WIDE for n, low, high in shelf)) for path, shelf in paper_for(program))
 
 
 def up(ins=(("a", 0, 9),), most=20, asked=("less", I, A), step=1, start=0):
