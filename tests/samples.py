@@ -3,7 +3,9 @@
 import itertools
 
 from smallrooms.papers import is_paper, paper_for
-from smallrooms.programs import WORDS
+from smallrooms.peeling import peeled
+from smallrooms.programs import WORDS, whiles
+from smallrooms.simpler import simpler
 
 LEAST, GREATEST = -32768, 32767
 
@@ -153,11 +155,17 @@ def papers_of(source, program):
     return [paper for paper in (found, less, wide_paper(program)) if is_paper(program, paper)]
 
 
-def no_papers():
-    """Things that are no papers of any program."""
+def deep_things():
+    """A tuple and a list, twelve deep."""
     deep, deep_list = (), []
     for level in range(12):
         deep, deep_list = (deep,), [deep_list]
+    return deep, deep_list
+
+
+def no_papers():
+    """Things that are no papers of any program."""
+    deep, deep_list = deep_things()
     return (
         0, 1, -1, True, False, None, "", "a", "paper", [], [()], ((),), ((), ()), (0,), (None,), ("",), ("ab",),
         (((99,), ()),), (((True,), ()),), (((), None),), deep, deep_list, ((deep, deep_list),))
@@ -166,6 +174,35 @@ def no_papers():
 def come_to_the_same(one, other):
     """Whether both runs come to the same worths, or are refused with the same word, wherever this is."""
     return one == other if one[0] == "told" else one[:2] == other[:2]
+
+
+def drawn_beyond(source):
+    """A program that may lie somewhat beyond the bounds, since it was made simpler, or its whiles were peeled."""
+    program = drawn_counting(source) if source.randrange(3) == 0 else drawn_program(source)
+    if source.randrange(4) == 0:
+        program = simpler(program, paper_for(program))
+    for again in range(source.randrange(3)):
+        if whiles(program):
+            program = peeled(program, source.choice(whiles(program)))
+    return program
+
+
+def second_walk(program):
+    """All deeds and all sums of a program with their paths, by a heap of what is still to be walked through."""
+    deeds, sums = [], []
+    heap = [((at,), deed) for at, deed in enumerate(program[1])]
+    while heap:
+        path, thing = heap.pop()
+        if thing[0] not in ("set", "if", "while"):
+            sums.append((path, thing))
+            if thing[0] not in ("num", "name"):
+                heap += [(path + (at,), part) for at, part in enumerate(thing[1:])]
+            continue
+        deeds.append((path, thing))
+        heap.append((path + (0,), thing[2 if thing[0] == "set" else 1]))
+        blocks = {"set": (), "if": thing[2:], "while": thing[3:]}[thing[0]]
+        heap += [(path + (number, at), deed) for number, block in enumerate(blocks, 1) for at, deed in enumerate(block)]
+    return deeds, sums
 
 
 class Refused(Exception):

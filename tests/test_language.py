@@ -194,6 +194,40 @@ class LanguageTest(unittest.TestCase):
                     self.assertIn(alias.name, defined[node.module.split(".")[1]], file)
                     self.assertIsNone(alias.asname, file)
 
+    def test_no_name_is_a_method_and_a_value(self):
+        methods = [inner.name for file, node in walked() if isinstance(node, ast.ClassDef) for inner in node.body
+                   if isinstance(inner, ast.FunctionDef)]
+        values = [node.attr for file, node in walked()
+                  if isinstance(node, ast.Attribute) and isinstance(node.ctx, ast.Store)]
+        kept = [word for kind in (str, int, list, tuple, dict, set, frozenset, bytes) for word in dir(kind)]
+        for word in values:
+            self.assertNotIn(word, methods + kept)
+        for word in methods:
+            if word not in DUNDERS:
+                self.assertNotIn(word, [other for other in kept if other not in METHODS + ["add", "discard"]])
+
+    def test_own_values_are_given_through_local_names(self):
+        for file, node in walked():
+            if isinstance(node, ast.Attribute) and isinstance(node.ctx, ast.Store):
+                self.assertIsInstance(node.value, ast.Name, file)
+                self.assertTrue(node.value.id.islower(), file)
+
+    def test_errors_are_made_on_the_spot(self):
+        for file, node in walked():
+            if isinstance(node, ast.Raise):
+                self.assertIsInstance(node.exc, ast.Call, file)
+            if isinstance(node, ast.ExceptHandler):
+                self.assertIsInstance(node.type, ast.Name, file)
+                self.assertNotIn(node.type.id, ("Exception", "TypeError"), file)
+
+    def test_sets_are_not_kept(self):
+        for file, node in walked():
+            for inner in ast.iter_child_nodes(node):
+                if isinstance(inner, ast.Call) and isinstance(inner.func, ast.Name) and inner.func.id == "set":
+                    stands = isinstance(node, (ast.Compare, ast.BinOp)) or (
+                        isinstance(node, ast.Call) and node.func.id in ("sorted", "len"))
+                    self.assertTrue(stands, (file, inner.lineno))
+
     def test_methods(self):
         own = [node.name for file, node in walked() if isinstance(node, ast.FunctionDef)]
         for file, node in walked():

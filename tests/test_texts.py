@@ -278,7 +278,8 @@ class SpoiltTest(unittest.TestCase):
             self.refused(written(program))
 
     def test_very_deep_and_very_long(self):
-        for text in ("if 1\n" * 20000, "while 1 1\n" * 20000, "set x " + "add " * 20000 + "1\n", "set x 1\n" * 20000,
+        for text in ("if 1\n" * 20000, "if 1\nelse\n" * 20000,
+                     "while 1 1\n" * 20000, "set x " + "add " * 20000 + "1\n", "set x 1\n" * 20000,
                      "set x " + "add 1 " * 20000 + "1\n", "end\n" * 20000, "in a 0 1\n" * 20000, "\n" * 20000,
                      "if 1\n" * 9000 + "else\nend\n" * 9000, " " * 20000, "x" * 20000):
             self.assertIsNone(told_by_read(text))

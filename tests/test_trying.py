@@ -4,7 +4,7 @@ import random
 import unittest
 
 from samples import (
-    GREATEST, LEAST, SecondWay, all_worths_of, drawn_counting, drawn_program, drawn_thing, name, num, parts_of,
+    GREATEST, LEAST, SecondWay, all_worths_of, deep_things, drawn_counting, drawn_program, drawn_thing, name, num, parts_of,
     stepped, with_part)
 from smallrooms.errors import BadPlan, RoomError
 from smallrooms.papers import paper_for, shown
@@ -38,9 +38,7 @@ def drawn_plan(source, program):
 def no_plans(program):
     """Things that are no plans of a program that has a spot (0, 0)."""
     row = ((0, 0), 4, ())
-    deep, deep_list = (), []
-    for level in range(12):
-        deep, deep_list = (deep,), [deep_list]
+    deep, deep_list = deep_things()
     return (
         None, 0, 1, True, False, "", "plan", [], [row], row, (list(row),), (row, row), (((0, 0), 5, ()),),
         (((0, 0), True, ()),), (((0, 0), 4, []),), (((0, 0), 4, ("long",)),), (((0, 0), 4, ("zero", "over")),),
